@@ -1,0 +1,1 @@
+"""Pairsfar: pairs of places at a told distance in a tree."""
