@@ -27,18 +27,20 @@ def check_tree(thing):
         raise NoTree("a tree is a list of none to fifty-nine tuples (up, length)")
 
 
+def is_place(tree, thing):
+    """Tell whether thing is a place of what is known to be a tree."""
+    # As many tuples as there are is the last place, for place 0 has no tuple.
+    return is_whole_from_zero(thing) and thing <= len(tree)
+
+
 def check_place(tree, thing):
     """Refuse what is no place of the tree."""
-    # As many tuples as there are is the last place, for place 0 has no tuple.
-    if not is_whole_from_zero(thing) or thing > len(tree):
+    if not is_place(tree, thing):
         raise NoPlace("a place is a whole number from 0 on, below how many places there are")
 
 
-def way_between(tree, i, j):
-    """Tell all places on the way from i to j, both among them."""
-    check_tree(tree)
-    check_place(tree, i)
-    check_place(tree, j)
+def known_way(tree, i, j):
+    """Tell all places on the way from i to j, both among them, of what are known to be a tree and its places."""
     from_i = [i]
     from_j = [j]
     # Ups are below their places, so the greater end can't be on the other end's way to place 0: it goes up.
@@ -50,11 +52,28 @@ def way_between(tree, i, j):
     return from_i + from_j[:-1][::-1]
 
 
+def roads_on(way):
+    """Tell the roads that the way goes over, each by the place that has its tuple."""
+    # Of the two ends of a road the greater one has its tuple.
+    return [max(one, other) for one, other in zip(way, way[1:])]
+
+
+def length_of(tree, roads):
+    """Tell how long the roads are together."""
+    return sum([tree[road - 1][1] for road in roads])
+
+
+def way_between(tree, i, j):
+    """Tell all places on the way from i to j, both among them."""
+    check_tree(tree)
+    check_place(tree, i)
+    check_place(tree, j)
+    return known_way(tree, i, j)
+
+
 def how_far(tree, i, j):
     """Tell the sum of the lengths on the way from i to j."""
-    way = way_between(tree, i, j)
-    # Of the two ends of a road the greater one has its tuple.
-    return sum([tree[max(one, other) - 1][1] for one, other in zip(way, way[1:])])
+    return length_of(tree, roads_on(way_between(tree, i, j)))
 
 
 def distance_table(tree):

@@ -16,8 +16,8 @@ BELOW_ZERO = (-1, -2, -10 ** 15, -HUGE)
 
 NO_TREES = (
     True, False, None, 0, 1, -1, "", "-", "0:1", b"", (), ((0, 1),), {}, {0: (0, 1)}, set(), {(0, 1)}, object(), list,
-    range(0), [None], [0], [1], ["0:1"], ["01"], [b"01"], [[]], [[0, 1]], [()], [(0,)], [(0, 1, 2)], [{}], [{0: 1, 2: 3}],
-    [{0, 1}], [(0, 1), [0, 1]], [(0, 1), (0,)], [(0, 1), (0, 1, 2)], [(0, 1), None],
+    range(0), [None], [0], [1], ["0:1"], ["01"], [b"01"], [[]], [[0, 1]], [()], [(0,)], [(0, 1, 2)], [{}],
+    [{0: 1, 2: 3}], [{0, 1}], [(0, 1), [0, 1]], [(0, 1), (0,)], [(0, 1), (0, 1, 2)], [(0, 1), None],
     [(1, 1)], [(2, 1)], [(-1, 1)], [(0, 1), (2, 1)], [(0, 1), (3, 1)], [(0, 1), (-1, 1)], [(HUGE, 1)], [(-HUGE, 1)],
     [(0, -1)], [(0, -HUGE)], [(0, 1), (1, -1)],
     [(False, 1)], [(0, True)], [(0, False)], [(0, 1), (True, 1)], [(0, 1), (1, True)],
@@ -25,6 +25,11 @@ NO_TREES = (
     [((0, 1), 1)], [[(0, 1)]], [(0, 1)] * 60, [(0, 1)] * 61, [(0, 1)] * 120, [(i, 2) for i in range(60)],
     [(0, 1)] * 58 + [(59, 1)],
 )
+
+SOME_NO_TREES = (None, (), [(1, 1)], [[0, 1]], [(0, True)], [(0, 1)] * 60)
+
+# Beyond all distances of trees with lengths of at most fifteen figures.
+ALL = 10 ** 18 - 1
 
 
 def chain(lengths):
@@ -35,6 +40,8 @@ def star(lengths):
     return [(0, length) for length in lengths]
 
 
+# The chain 3 - 1 - 0 - 2, with the lengths 2, 1, 1.
+FORK = [(0, 1), (0, 1), (1, 2)]
 MIXED = [(0, 3), (0, 5), (1, 2), (1, 0), (2, 4), (5, 1), (3, 3)]
 
 TREES = (
@@ -70,14 +77,53 @@ def walk(tree, start):
     return found
 
 
+def all_pairs(tree):
+    """Every pair in its order as (distance, pair, way from the first place to the second)."""
+    many = len(tree) + 1
+    told = []
+    for i in range(many):
+        found = walk(tree, i)
+        told.extend((found[j][0], (i, j), found[j][1]) for j in range(i + 1, many))
+    return told
+
+
 def pairs_by_distance(tree):
     """A dict from each distance to the sorted list of its pairs."""
     told = {}
-    for i in range(len(tree) + 1):
-        found = walk(tree, i)
-        for j in range(i + 1, len(tree) + 1):
-            told.setdefault(found[j][0], []).append((i, j))
+    for distance, pair, way in all_pairs(tree):
+        told.setdefault(distance, []).append(pair)
     return told
+
+
+def edges_of(distances):
+    """Each distance with its neighbours, and what is beyond them all."""
+    near = {0, 1, 10 ** 17, 10 ** 18 - 1}
+    for distance in distances:
+        near.update((max(distance - 1, 0), distance, distance + 1))
+    return sorted(near)
+
+
+def spans_of(tree):
+    """Bounds a, b: of all, of one distance, of none, and some between, each a at most b."""
+    edges = edges_of({distance for distance, pair, way in all_pairs(tree)})
+    some = edges if len(edges) < 12 else edges[:4] + edges[4:-4:len(edges) // 4] + edges[-4:]
+    return [(a, b) for at, a in enumerate(some) for b in some[at:]]
+
+
+def no_pairs(tree):
+    """Things that are no pair of the tree, the first three only because the tree is too small for them."""
+    many = len(tree) + 1
+    beyond = [(0, many), (many - 1, many), (many, many + 1)]
+    forms = [
+        True, False, None, 0, 1, -1, "", "01", "0-1", "(0, 1)", b"01", [], [0, 1], ["0", "1"], {}, {0: 1}, {0: 0, 1: 1},
+        {0, 1}, range(2), object(), tuple, [(0, 1)], ((0, 1),), ((0, 1), (0, 1)), (), (0,), (1,), (0, 1, 2), (0, 1, 1),
+    ]
+    places = [
+        (0, 0), (1, 1), (many - 1, many - 1), (1, 0), (2, 1), (many - 1, 0), (0, -1), (-1, 0), (-1, 1), (-2, -1),
+        (False, 1), (0, True), (False, True), (True, 2), (None, 1), (0, None), ("0", 1), (0, "1"), ("0", "1"),
+        ([0], 1), (0, [1]), ((0,), (1,)), (0, {}), (0, HUGE), (-HUGE, 1), (HUGE, HUGE + 1),
+    ]
+    return beyond + forms + places
 
 
 def rewritten(tree, start, last_first):
@@ -104,6 +150,25 @@ def exact(thing):
     return (type(thing), thing)
 
 
+def boxes_in(thing):
+    """All lists and dicts within a thing, itself among them."""
+    inner = list(thing.values()) if isinstance(thing, dict) else thing if isinstance(thing, (list, tuple)) else []
+    found = [thing] if isinstance(thing, (list, dict)) else []
+    for part in inner:
+        found.extend(boxes_in(part))
+    return found
+
+
+def spoil(box):
+    """Change all that a list or a dict has, and give it more."""
+    for key in list(box) if isinstance(box, dict) else range(len(box)):
+        box[key] = "spoiled"
+    if isinstance(box, dict):
+        box["more"] = "spoiled"
+    else:
+        box.append("spoiled")
+
+
 class FarCase(unittest.TestCase):
     def told(self, expected, call, *handed):
         """The call tells just this, twice, and leaves what is handed in as it was."""
@@ -113,6 +178,21 @@ class FarCase(unittest.TestCase):
         self.assertTrue(exact(call(*handed)) == exact(expected), call.__name__)
         self.assertTrue(exact(handed) == before, "what was handed in is changed")
         return answer
+
+    def askers_own(self, call, *handed):
+        """What the call tells has lists or dicts, all new ones, and what is done to them changes nothing else."""
+        before = exact(handed)
+        one = call(*handed)
+        other = call(*handed)
+        right = exact(one)
+        boxes = boxes_in(one) + boxes_in(other) + boxes_in(handed)
+        self.assertNotEqual(boxes_in(one), [])
+        self.assertEqual(len({id(box) for box in boxes}), len(boxes))
+        for box in boxes_in(one):
+            spoil(box)
+        self.assertTrue(exact(other) == right, call.__name__)
+        self.assertTrue(exact(call(*handed)) == right, call.__name__)
+        self.assertTrue(exact(handed) == before, "what was handed in is changed")
 
     def refused(self, kind, call, *handed):
         """The call is refused with just this class, and leaves what is handed in as it was."""

@@ -4,18 +4,10 @@ import unittest
 
 from pairsfar.errors import NoNumber, NoTree
 from pairsfar.pairs import distances_counted, how_many_at, how_many_from, pairs_at
-from tests.helper import (BELOW_ZERO, HUGE, MIXED, NO_TREES, NO_WHOLE_NUMBERS, TREES, FarCase, chain, every_tree,
-                          pairs_by_distance, star)
+from tests.helper import (BELOW_ZERO, HUGE, MIXED, NO_TREES, NO_WHOLE_NUMBERS, TREES, FarCase, chain, edges_of,
+                          every_tree, pairs_by_distance, star)
 
 SMALL = [(0, 1), (1, 1), (0, 0)]
-
-
-def edges_of(distances):
-    """Each distance with its neighbours, and what is beyond them all."""
-    near = {0, 1, 10 ** 17, 10 ** 18 - 1}
-    for distance in distances:
-        near.update((max(distance - 1, 0), distance, distance + 1))
-    return sorted(near)
 
 
 class DistancesCountedTest(FarCase):
