@@ -39,6 +39,12 @@ def check_place(tree, thing):
         raise NoPlace("a place is a whole number from 0 on, below how many places there are")
 
 
+def check_place_with_road(last, thing):
+    """Refuse what is no place from 1 on, up to the last one."""
+    if not is_whole_from_zero(thing) or not 1 <= thing <= last:
+        raise NoPlace("a place that has a road is a whole number from 1 on, below how many places there are")
+
+
 def known_way(tree, i, j):
     """Tell all places on the way from i to j, both among them, of what are known to be a tree and its places."""
     from_i = [i]

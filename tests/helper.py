@@ -28,6 +28,11 @@ NO_TREES = (
 
 SOME_NO_TREES = (None, (), [(1, 1)], [[0, 1]], [(0, True)], [(0, 1)] * 60)
 
+NO_TEXTS = (
+    True, False, None, 0, 1, -1, b"", b"-", b"names", b"0:1", [], ["-"], ["names"], ["0", "1"], (), ("-",), ("names",),
+    {}, {"-": "-"}, {"-"}, frozenset(), object(), str, len, range(3), [(0, 1)], [[0, 1]],
+)
+
 # Beyond all distances of trees with lengths of at most fifteen figures.
 ALL = 10 ** 18 - 1
 
@@ -85,6 +90,21 @@ def all_pairs(tree):
         found = walk(tree, i)
         told.extend((found[j][0], (i, j), found[j][1]) for j in range(i + 1, many))
     return told
+
+
+def table_of(tree):
+    """How far each place is from each other one, a list of lists of its own."""
+    many = len(tree) + 1
+    found = [walk(tree, i) for i in range(many)]
+    return [[found[i][j][0] for j in range(many)] for i in range(many)]
+
+
+def some_numbers(start):
+    """Whole numbers from 0 to 32767 without an end, all over the place, the same ones from the same start."""
+    state = start
+    while True:
+        state = (state * 1103515245 + 12345) % 2147483648
+        yield state // 65536
 
 
 def pairs_by_distance(tree):

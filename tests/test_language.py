@@ -50,7 +50,7 @@ def names_bound(node):
         return [node.id]
     if isinstance(node, ast.ImportFrom):
         return [alias.asname or alias.name for alias in node.names]
-    if isinstance(node, ast.ExceptHandler) and node.name:
+    if isinstance(node, (ast.ExceptHandler, ast.MatchAs, ast.MatchStar)) and node.name:
         return [node.name]
     return []
 
@@ -129,6 +129,26 @@ class LanguageTest(unittest.TestCase):
         for name, node in self.each_node():
             if isinstance(node, ast.Call) and isinstance(node.func, ast.Attribute):
                 self.assertIn(node.func.attr, own | PLAIN_METHODS, name)
+
+    def test_names_of_imports_and_classes_mean_nothing_else(self):
+        for path in files():
+            nodes = list(ast.walk(ast.parse(path.read_text())))
+            taken = {name for node in nodes if isinstance(node, (ast.ImportFrom, ast.ClassDef))
+                     for name in names_bound(node)}
+            for node in nodes:
+                if not isinstance(node, (ast.ImportFrom, ast.ClassDef, ast.FunctionDef)):
+                    self.assertEqual(taken.intersection(names_bound(node)), set(), path.name)
+
+    def test_no_name_is_a_method_and_an_attribute(self):
+        methods, attributes = set(), set()
+        for name, node in self.each_node():
+            if isinstance(node, ast.ClassDef):
+                methods.update(row.name for row in node.body if isinstance(row, ast.FunctionDef))
+            if isinstance(node, ast.Attribute) and isinstance(node.ctx, ast.Store):
+                attributes.add(node.attr)
+        self.assertEqual(methods & attributes, set())
+        self.assertEqual(attributes & PLAIN_METHODS, set())
+        self.assertEqual(methods & PLAIN_METHODS, set())
 
     def test_module_level(self):
         allowed = (ast.Expr, ast.ImportFrom, ast.FunctionDef, ast.ClassDef, ast.Assign)

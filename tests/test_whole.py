@@ -3,11 +3,16 @@
 import inspect
 import unittest
 
-from pairsfar import around, numbered, pairs, roads, trees, weighed
+from pairsfar import around, desk, keeper, numbered, pairs, roads, texts, toldback, trees, weighed
 from pairsfar.around import distances_from, farthest, middles, places_at, sum_middles
+from pairsfar.desk import Desk
+from pairsfar.errors import NoNumber
+from pairsfar.keeper import Keeper
 from pairsfar.numbered import nth_from, nth_pair, number_of_pair
 from pairsfar.pairs import distances_counted, how_many_at, how_many_from, pairs_at
 from pairsfar.roads import pairs_over_roads, pairs_past_places, way_in_common
+from pairsfar.texts import read_pairs, read_tree, show_pairs, show_tree
+from pairsfar.toldback import first_hanging_on_none, may_hang_on, tree_of
 from pairsfar.trees import how_far, is_tree, way_between
 from pairsfar.weighed import greatest_weight, weight_from, weights_by_distance
 from tests.helper import ALL, TREES, FarCase, every_tree, exact, rewritten
@@ -92,6 +97,91 @@ class FitsTogetherTest(FarCase):
                 self.assertEqual(ends, pairs_at(tree, distance))
 
 
+    def test_a_tree_is_told_back_from_how_far_all_are(self):
+        for tree in TREES:
+            table = [distances_from(tree, i) for i in range(len(tree) + 1)]
+            told = tree_of(table)
+            self.assertEqual([distances_from(told, i) for i in range(len(told) + 1)], table)
+            self.assertIsNone(first_hanging_on_none(table))
+            for p in range(1, len(table)):
+                self.assertIn(tree[p - 1][0], may_hang_on(table, p))
+                self.assertEqual(told[p - 1][0], may_hang_on(table, p)[0])
+
+    def test_what_is_told_may_be_handed_in(self):
+        for tree in [tree for tree in TREES if all(length < 10 ** 15 for up, length in tree)]:
+            handed = Keeper(read_tree(show_tree(tree))).tree()
+            self.assertEqual(distances_counted(handed), distances_counted(tree))
+            for distance in list(distances_counted(tree))[:5]:
+                told = read_pairs(show_pairs(pairs_at(handed, distance)))
+                self.assertEqual({how_far(tree, i, j) for i, j in told}, {distance})
+            table = [distances_from(handed, i) for i in range(len(handed) + 1)]
+            self.assertTrue(is_tree(tree_of(table)))
+
+
+class KeptTest(FarCase):
+    """What a Keeper and a Desk tell is what is told of their trees, whatever led to them."""
+
+    def same_as_handed_in(self, kept, tree):
+        self.assertTrue(exact(kept.tree()) == exact(tree))
+        self.assertEqual(kept.farthest(), farthest(tree))
+        for a, b in ((0, ALL), (0, 0), (1, 7), (5, 5)):
+            self.assertEqual(kept.how_many_from(a, b), how_many_from(tree, a, b))
+        many = how_many_from(tree, 0, 10 ** 7000)
+        for n in range(0, many, 1 + many // 7):
+            self.assertEqual(kept.nth_pair(n), nth_pair(tree, n))
+        self.refused(NoNumber, kept.nth_pair, many)
+
+    def test_leaf_by_leaf(self):
+        for tree in TREES:
+            kept = Keeper([])
+            for at, (up, length) in enumerate(tree):
+                kept.leaf(up, length)
+                if at < 8:
+                    self.same_as_handed_in(kept, tree[:at + 1])
+            self.same_as_handed_in(kept, tree)
+
+    def test_length_by_length_and_back(self):
+        for tree in TREES:
+            kept = Keeper([(up, 3) for up, length in tree])
+            for at, (up, length) in enumerate(tree):
+                kept.put_length(at + 1, length)
+            self.same_as_handed_in(kept, tree)
+            for again in tree:
+                kept.undo()
+            self.same_as_handed_in(kept, [(up, 3) for up, length in tree])
+
+    def test_cut_and_undone(self):
+        for tree in TREES:
+            kept = Keeper(tree)
+            for again in tree:
+                kept.cut()
+            self.same_as_handed_in(kept, [])
+            for again in tree:
+                kept.undo()
+            self.same_as_handed_in(kept, tree)
+
+    def test_a_desk_tells_the_same_as_a_keeper(self):
+        told, kept = Desk(), Keeper([])
+        told.say("tree t -")
+        for at in range(40):
+            up, length = at * 5 % (at + 1), at * 7 % 4
+            told.say(f"leaf t {up} {length}")
+            kept.leaf(up, length)
+            if at % 3 == 2:
+                told.say(f"long t {at} {at}")
+                kept.put_length(at, at)
+            if at % 4 == 3:
+                told.say("cut t")
+                kept.cut()
+                told.say("leaf t 0 1")
+                kept.leaf(0, 1)
+            distance, pair = kept.farthest()
+            self.assertEqual(told.say("show t"), show_tree(kept.tree()))
+            self.assertEqual(told.say("greatest t"), f"{distance} {show_pairs([pair])}")
+            self.assertEqual(told.say("many t 1 9"), str(kept.how_many_from(1, 9)))
+            self.assertEqual(told.say(f"nth t {at}"), show_pairs([kept.nth_pair(at)]))
+
+
 class HoweverWrittenTest(FarCase):
     def same_as_rewritten(self, tree, start, last_first):
         other, number = rewritten(tree, start, last_first)
@@ -146,6 +236,16 @@ class HoweverWrittenTest(FarCase):
             self.assertEqual(way_in_common(other, *moved)[0], length)
             self.assertEqual(len(way_in_common(other, *moved)[1]), len(met))
 
+    def test_trees_of_the_same_distances_are_told_back_alike(self):
+        for tree in every_tree(4, (0, 2)):
+            table = [distances_from(tree, i) for i in range(5)]
+            first = tree_of(table)
+            again = [distances_from(first, i) for i in range(5)]
+            self.assertTrue(exact(tree_of(again)) == exact(first))
+            self.assertEqual(distances_counted(first), distances_counted(tree))
+            self.assertEqual([nth_pair(first, n) for n in range(10)], [nth_pair(tree, n) for n in range(10)])
+            self.assertEqual((farthest(first), middles(first)), (farthest(tree), middles(tree)))
+
     def test_small_trees_from_every_place(self):
         for tree in list(TREES[:10]) + every_tree(3, (0, 1, 3)):
             for start in range(len(tree) + 1):
@@ -173,11 +273,32 @@ class InterfaceTest(FarCase):
             (numbered, "nth_from", ["tree", "a", "b", "n", "far"]),
             (roads, "pairs_over_roads", ["tree", "a", "b"]), (roads, "pairs_past_places", ["tree", "a", "b"]),
             (roads, "way_in_common", ["tree", "one", "other"]),
+            (toldback, "tree_of", ["table"]), (toldback, "may_hang_on", ["table", "p"]),
+            (toldback, "first_hanging_on_none", ["table"]),
+            (texts, "show_tree", ["tree"]), (texts, "read_tree", ["text"]), (texts, "show_pairs", ["pairs"]),
+            (texts, "read_pairs", ["text"]),
         )
         for module, name, arguments in listed:
             function = getattr(module, name)
             self.assertEqual(list(inspect.signature(function).parameters), arguments)
             self.assertEqual(function.__module__, module.__name__)
+
+    def test_classes_and_their_methods(self):
+        listed = (
+            (keeper, "Keeper", ["tree"], {
+                "leaf": ["up", "length"], "cut": [], "put_length": ["p", "length"], "undo": [], "tree": [],
+                "how_many_from": ["a", "b"], "farthest": [], "nth_pair": ["n"],
+            }),
+            (desk, "Desk", [], {"say": ["row"], "names": []}),
+        )
+        for module, name, arguments, methods in listed:
+            kind = getattr(module, name)
+            self.assertEqual(kind.__module__, module.__name__)
+            self.assertEqual(list(inspect.signature(kind).parameters), arguments)
+            for method in methods:
+                # vars, not getattr: a method from a base class would not do.
+                parameters = list(inspect.signature(vars(kind)[method]).parameters)
+                self.assertEqual(parameters, ["self"] + methods[method])
 
 
 if __name__ == "__main__":
